@@ -104,14 +104,12 @@ func plain(b []byte) script.Script {
 	s.Progs = make([][]cmd, s.Plan.Threads)
 	for i := 20; i < len(b); i++ {
 		s.Picks = append(s.Picks, int(b[i]))
-		if i%3 != 1 {
+		// The 24th Cmd ends with byte 91.
+		if i%3 != 1 || i > 91 {
 			continue
 		}
 		x, y, z := b[i-2], b[i-1], b[i]
 		who := int(x>>4) % s.Plan.Threads
-		if len(s.Progs[who]) == 24 {
-			continue
-		}
 		s.Progs[who] = append(s.Progs[who], plainCmd("OOAAAAACUUUUUDWF"[x&15], y, z, ports))
 	}
 	return s

@@ -3,6 +3,7 @@ package script_test
 import (
 	"math"
 	"slices"
+	"strings"
 	"testing"
 
 	"marchland/batch"
@@ -178,7 +179,7 @@ func TestKinds(t *testing.T) {
 	}
 }
 
-// P18.1: Cmds come by three bytes, 24 of a thread and not one more; of another one they still may.
+// P18.1: Cmds come by three bytes, 24 and not one more; all bytes from 20 on are picks, however many Cmds there are.
 func TestHowManyCmds(t *testing.T) {
 	for n := range 100 {
 		b := rest(nil, make([]byte, n)...)
@@ -187,21 +188,51 @@ func TestHowManyCmds(t *testing.T) {
 			t.Errorf("of %d bytes %d Cmds, %d picks", n, len(s.Progs[0]), len(s.Picks))
 		}
 	}
-	b := rest([]byte{0, 0, 2})
-	for i := range 100 {
-		b = append(b, 2, 0, byte(i))
-		if i%2 == 0 {
-			b = append(b, 16+2, 0, byte(i))
+	b := rest(nil, make([]byte, 300000)...)
+	if s := script.Read(b); len(s.Progs[0]) != 24 || len(s.Picks) != 300000 {
+		t.Errorf("of many bytes %d Cmds, %d picks", len(s.Progs[0]), len(s.Picks))
+	}
+}
+
+// P18.1: 24 Cmds are in all, the first ones, whichever threads they are of; none comes in place of one that is left.
+func TestHowManyCmdsInAll(t *testing.T) {
+	// Of each Cmd the thread; how many each thread has.
+	for _, c := range []struct {
+		threads int
+		who     string
+		want    []int
+	}{
+		{2, strings.Repeat("0", 24) + "1", []int{24, 0}},
+		{2, strings.Repeat("0", 24) + "1111", []int{24, 0}},
+		{2, strings.Repeat("0", 23) + "1", []int{23, 1}},
+		{2, strings.Repeat("0", 23) + "110", []int{23, 1}},
+		{2, strings.Repeat("1", 24) + "0", []int{0, 24}},
+		{2, "0" + strings.Repeat("1", 24) + "0", []int{1, 23}},
+		{2, strings.Repeat("01", 11) + "0", []int{12, 11}},
+		{2, strings.Repeat("01", 12) + "0", []int{12, 12}},
+		{2, strings.Repeat("01", 40), []int{12, 12}},
+		{3, strings.Repeat("012", 24), []int{8, 8, 8}},
+		{3, strings.Repeat("2", 25) + "10", []int{0, 0, 24}},
+		{3, strings.Repeat("0", 22) + "1201", []int{22, 1, 1}},
+		{3, strings.Repeat("0", 20) + strings.Repeat("1", 20) + strings.Repeat("2", 20), []int{20, 4, 0}},
+		// With fewer threads it is the rest.
+		{1, strings.Repeat("0123", 7), []int{24}},
+		{2, strings.Repeat("23", 13), []int{12, 12}},
+	} {
+		b := rest([]byte{0, 0, byte(c.threads - 1)})
+		progs := make([][]cmd, c.threads)
+		for i, r := range c.who {
+			b = append(b, byte(r-'0')<<4|2, byte(i/16), byte(i))
+			who := int(r-'0') % c.threads
+			if len(progs[who]) < c.want[who] {
+				progs[who] = append(progs[who], advance(i/16, uint64(i%16)))
+			}
 		}
-	}
-	b = append(b, 32+2, 0, 9)
-	s := script.Read(b)
-	reads(t, b, plain(b))
-	if len(s.Progs) != 3 || len(s.Progs[0]) != 24 || len(s.Progs[1]) != 24 || len(s.Progs[2]) != 1 {
-		t.Fatal(s.Progs)
-	}
-	if !sameCmd(s.Progs[0][23], advance(0, 23%16)) || !sameCmd(s.Progs[1][23], advance(0, 46%16)) || !sameCmd(s.Progs[2][0], advance(0, 9)) {
-		t.Error(s.Progs)
+		s := script.Read(b)
+		reads(t, b, plain(b))
+		if !slices.EqualFunc(s.Progs, progs, sameCmds) || len(s.Picks) != 3*len(c.who) {
+			t.Errorf("%d threads, %s: %v, %d picks, want %v", c.threads, c.who, s.Progs, len(s.Picks), progs)
+		}
 	}
 }
 
